@@ -1,0 +1,1 @@
+"""Speaklast: nets of filtered table feeds, and which of them end right."""

@@ -1,0 +1,82 @@
+"""The form of the package: sizes, characters, imports and builtins, as far as a test can see them."""
+
+import ast
+import builtins
+import pathlib
+import unittest
+import warnings
+
+PACKAGE = pathlib.Path(__file__).resolve().parent.parent / "speaklast"
+BUILTINS = set("""len range enumerate zip min max sum abs sorted reversed int str bool bytes list tuple dict set
+    frozenset isinstance ord repr any all divmod iter next map super property staticmethod classmethod
+    Exception ValueError TypeError KeyError IndexError LookupError ZeroDivisionError ArithmeticError
+    OverflowError RuntimeError NotImplementedError AttributeError StopIteration NotImplemented""".split())
+LIBRARY = {"heapq", "math", "itertools"}
+
+# Where the interface wants each name that has landed, and the methods of each class.
+INTERFACE = {
+    "errors.py": {name: {"__init__"} for name in (
+        "FeedError", "InvalidTable", "InvalidChange", "InvalidSite", "InvalidFeed", "InvalidNet", "InvalidStep",
+        "InvalidText", "UnknownCommand", "UnknownName", "InvalidUndo", "InvalidFall", "NothingPending", "Blocked",
+        "TooMany")},
+    "ranges.py": {"Ranges": {"of", "between", "full", "empty", "__or__", "__and__", "__sub__", "__eq__", "is_within",
+                             "__contains__", "__bool__", "sample"}},
+    "filters.py": {"Filter": {"within", "missing", "always", "never", "__and__", "__or__", "__invert__", "__call__",
+                              "__eq__"}},
+}
+
+
+def sources():
+    return [(path, path.read_text(encoding="utf-8")) for path in sorted(PACKAGE.glob("*.py"))]
+
+
+class FormTest(unittest.TestCase):
+    def test_the_folder_holds_python_files_alone(self):
+        found = [path.name for path in PACKAGE.iterdir() if path.name != "__pycache__"]
+        self.assertIn("__init__.py", found)
+        self.assertEqual([name for name in found if not name.endswith(".py")], [])
+
+    def test_characters_and_sizes(self):
+        for path, text in sources():
+            self.assertTrue(all(" " <= sign <= "~" or sign == "\n" for sign in text), path.name)
+            lines = text.split("\n")
+            self.assertLess(len(lines), 400, path.name)
+            self.assertLessEqual(max(len(line) for line in lines), 120, path.name)
+
+    def test_python_gives_no_warning(self):
+        with warnings.catch_warnings():
+            warnings.simplefilter("error")
+            for path, text in sources():
+                compile(text, path.name, "exec")
+
+    def test_functions_have_at_most_forty_lines(self):
+        for path, text in sources():
+            for node in ast.walk(ast.parse(text)):
+                if isinstance(node, ast.FunctionDef):
+                    self.assertLessEqual(node.end_lineno - node.lineno + 1, 40, (path.name, node.name))
+
+    def test_imports_are_from_the_package(self):
+        for path, text in sources():
+            for node in ast.walk(ast.parse(text)):
+                self.assertNotIsInstance(node, ast.Import, path.name)
+                if isinstance(node, ast.ImportFrom):
+                    known = node.module.startswith("speaklast.") or node.module in LIBRARY
+                    self.assertTrue(known and node.level == 0, (path.name, node.module))
+
+    def test_only_the_allowed_builtins_are_named(self):
+        barred = set(dir(builtins)) - BUILTINS - {"__name__", "__doc__"}
+        for path, text in sources():
+            named = {node.id for node in ast.walk(ast.parse(text)) if isinstance(node, ast.Name)}
+            self.assertEqual(named & barred, set(), path.name)
+
+    def test_the_interface_is_defined_where_it_is_listed(self):
+        for name, classes in INTERFACE.items():
+            body = ast.parse((PACKAGE / name).read_text(encoding="utf-8")).body
+            found = {node.name: node for node in body if isinstance(node, ast.ClassDef)}
+            for title, methods in classes.items():
+                own = {node.name for node in found[title].body if isinstance(node, ast.FunctionDef)}
+                self.assertEqual(methods - own, set(), (name, title))
+
+
+if __name__ == "__main__":
+    unittest.main()
