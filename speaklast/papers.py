@@ -56,7 +56,7 @@ def shows_asked(net, grid, rows):
 
 
 def goes_up(net, home, feed, entries):
-    """Whether each cell of a feed is made at its source, or stands there with a lesser number."""
+    """Whether each asked cell of a feed is made at its source, or comes there with a lesser number."""
     source = net.line_of(feed).source
     if source == home:
         return True
@@ -64,4 +64,4 @@ def goes_up(net, home, feed, entries):
     for other in net.feeds_into(source):
         for cell, number in entries[other]:
             least[cell] = min(number, least.get(cell, number))
-    return all([cell in least and least[cell] < number for cell, number in entries[feed]])
+    return all([least[cell] < number for cell, number in entries[feed]])

@@ -17,22 +17,22 @@ def rings(net, home):
 
 def rings_among(net, sieve, brought):
     """The list of the tuples (sites, cells) of all rings; brought is what coming returned."""
+    groups = cells_by_feeds(net, sieve, brought)
     found = {}
-    for feeds, cells in cells_by_feeds(net, sieve, brought).items():
+    for feeds in groups:
         arrows = [(net.line_of(feed).source, net.line_of(feed).target) for feed in feeds]
         for sites in knots(net.sites, arrows):
-            found.setdefault(tuple([net.sites.index(site) for site in sites]), []).extend(cells)
-    return [(tuple([net.sites[at] for at in places]), tuple(sorted(found[places])))
-            for places in sorted(list(found))]
+            places = tuple([net.sites.index(site) for site in sites])
+            found.setdefault(places, []).extend(groups[feeds])
+    return [(tuple([net.sites[at] for at in ring]), tuple(sorted(found[ring]))) for ring in sorted(list(found))]
 
 
 def cells_by_feeds(net, sieve, brought):
     """The dict from the tuples of feeds that may be part of a ring to the cells that come through just these."""
     feeds = [line.name for line in net.lines() if not line.own and not goes_stamped(net, line)]
-    sets = {feed: brought[feed] for feed in feeds}
     found = {}
     for at, cell in enumerate(sieve.in_order):
-        with_cell = tuple([feed for feed in feeds if (sets[feed] >> at) & 1])
+        with_cell = tuple([feed for feed in feeds if (brought[feed] >> at) & 1])
         found.setdefault(with_cell, []).append(cell)
     return found
 

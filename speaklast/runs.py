@@ -105,7 +105,6 @@ class Run:
 
     def wanted(self, site):
         """The tuple of the rows that a site wants, ascending by key."""
-        self.state.wiring.known_site(site)
         return wanted_rows(self.state, site)
 
     def right(self, site):

@@ -80,6 +80,11 @@ class AskedTest(Asking):
             cut = net.with_filter(net.feeds[at], ONES)
             self.assertEqual([len(asked(cut, feed, "sa")) for feed in cut.feeds[:7]], [4] * at + [1] * (7 - at))
 
+    def test_the_first_cell_alone(self):
+        net = chain(5, where=Filter.within("r", Ranges.between(None, 0)))
+        self.assertEqual([asked(net, feed, "sa") for feed in net.feeds], [((0, 0),)] * 4)
+        self.assertEqual([speakers(net, site, "sa") for site in net.sites], [("",), ("fa",), ("fb",), ("fc",), ("fd",)])
+
     def test_fewer_columns_and_other_orders(self):
         self.assertEqual(asked(WIDE, "lc", "low"), tuple((a, 0, 1, 0) for a in range(3)))
         self.assertEqual(asked(WIDE, "le", "high"), tuple((1, 1, r, 0) for r in range(4)))
@@ -93,6 +98,7 @@ class AskedTest(Asking):
                 self.unknown(value, lambda: asked(NET, feed, value))
             self.unknown(value, lambda: speakers(NET, "c", value))
             self.unknown(value, lambda: asked(HUGE, "", value))
+            self.unknown(value, lambda: speakers(HUGE, "c", value))
         for value in no_names() + ["e", ""]:
             self.unknown(value, lambda: speakers(NET, value, "zz"))
             self.unknown(value, lambda: speakers(HUGE, value, "h"))

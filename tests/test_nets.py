@@ -176,6 +176,21 @@ class RegionsTest(Refusing):
         self.check(TABLE, Filter.within("k", evens), Filter.within("k", odds | Ranges.of(2998)), True)
         self.check(TABLE, Filter.within("k", evens), ~Filter.within("k", evens), False)
         self.check(TABLE, ~Filter.within("k", evens), ~Filter.within("k", odds), True)
+        self.check(TABLE, ~LOW, ~HIGH, False)
+        self.check(TABLE, ALL, ~ALL, False)
+
+    def test_a_key_that_many_conditions_tell_apart(self):
+        """Each number from 0 to 2047 is the only one in just these of eleven sets."""
+        def with_bit(at):
+            return Ranges.of(*[number for number in range(2048) if number >> at & 1])
+        for wanted in (0, 999, 1000, 1001, 2047):
+            region = ALL
+            for at in range(11):
+                within = Filter.within("k", with_bit(at))
+                region = region & (within if wanted >> at & 1 else ~within)
+            region = region & Filter.within("k", Ranges.between(0, 2047))
+            self.check(TABLE, region, Filter.within("k", Ranges.of(wanted)), True)
+            self.check(TABLE, region, ~Filter.within("k", Ranges.of(wanted)), False)
 
     def test_two_key_columns(self):
         table = Table("k", "r", "l", key=("k", "l"))

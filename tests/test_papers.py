@@ -55,6 +55,7 @@ class PapersTest(unittest.TestCase):
         waiting = NET.without("f").with_policy("c", "wait")
         self.accepted(waiting, paper(waiting))
         self.refused(waiting, paper(waiting), falls=True)
+        self.assertIs(shows_right(waiting, paper(waiting)), True)
 
     def test_two_homes_and_an_empty_region(self):
         net = Net(TABLE, Site("b", "k", "r", home=HIGH), Site("c", "k", "r", policy="wait"), Site("a", "k", "r", home=LOW),

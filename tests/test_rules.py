@@ -160,6 +160,19 @@ class ValueTest(unittest.TestCase):
         self.assertEqual(told(net.with_filter("f", other))[1:], [("value", "h", "c", "u", "e", "f", (1, 0), (3, 0))])
         self.assertEqual(told(net.with_filter("e", other))[1:], [("value", "h", "c", "u", "e", "f", (3, 0), (1, 0))])
 
+    def test_cells_of_two_keys(self):
+        two = Filter.within("k", Ranges.between(1, 2))
+        net = SOLE.with_policy("c", "wait").with_filter("e", two).with_feed(Feed("f", "h", "c", where=two))
+        self.assertEqual(told(net)[1:], [("value", "h", "c", "u", "e", "f", (1, 0), (1, 0))])
+
+    def test_a_cell_of_another_key_behind_others_of_the_same_key(self):
+        table = Table("k", "r", "u", key=("k",), unique=("u",))
+        net = Net(table, Site("h", "k", "r", "u", home=ALL), Site("c", "k", "u", policy="wait"),
+                  Feed("e", "h", "c", where=Filter.within("k", Ranges.of(1)) & ~ONES),
+                  Feed("f", "h", "c", where=Filter.within("k", Ranges.of(1, 3))))
+        # k: to 0, 1, 2, 3, from 4; r: to 0, 1, from 2, None; u: all, None.
+        self.assertEqual(told(net)[1:], [("value", "h", "c", "u", "e", "f", (1, 0, 0), (3, 0, 0))])
+
     def test_two_columns_and_two_key_columns(self):
         table = Table("v", "k", "u", "l", key=("k", "l"), unique=("u", "v"))
         low = Filter.within("l", Ranges.of(0))

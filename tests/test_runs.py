@@ -398,6 +398,7 @@ class EventsTest(Asking):
                 make_by_chance(chance, run)
                 deliver_by_chance(chance, run)
             twin, before = run.twin(), self.told(run)
+            self.assertEqual(self.told(twin), before)
             for _ in range(6):
                 make_by_chance(chance, twin)
                 deliver_by_chance(chance, twin)
