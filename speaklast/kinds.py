@@ -29,3 +29,13 @@ def is_key(thing, size):
 def sequence_of(things):
     """A list or tuple as a tuple; of any other value the empty tuple, in which nothing is right."""
     return tuple(things) if isinstance(things, (list, tuple)) else ()
+
+
+def is_tuple_of(thing, size):
+    """Whether any value is a tuple with this number of parts."""
+    return isinstance(thing, tuple) and len(thing) == size
+
+
+def is_word(thing, word):
+    """Whether any value is this very string."""
+    return isinstance(thing, str) and thing == word

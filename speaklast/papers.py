@@ -2,7 +2,7 @@
 
 from speaklast.asked import coming
 from speaklast.cells import Grid
-from speaklast.kinds import is_number
+from speaklast.kinds import is_number, is_tuple_of, is_word
 from speaklast.rules import failings
 from speaklast.sieves import Sieve
 
@@ -10,7 +10,7 @@ from speaklast.sieves import Sieve
 def shows_right(net, thing, *, falls=False):
     """Whether any value is a tuple ("right", rows) with a paper that holds."""
     grid = Grid(net)
-    if not (is_tuple_of(thing, 2) and isinstance(thing[0], str) and thing[0] == "right"):
+    if not (is_tuple_of(thing, 2) and is_word(thing[0], "right")):
         return False
     rows = thing[1]
     wanted = [(home, feed) for home in net.homes for feed in net.feeds]
@@ -23,14 +23,9 @@ def shows_right(net, thing, *, falls=False):
     return shows_asked(net, grid, rows) and not list(failings(net, falls=falls))
 
 
-def is_tuple_of(thing, size):
-    """Whether any value is a tuple with this number of parts."""
-    return isinstance(thing, tuple) and len(thing) == size
-
-
 def is_told(row, home, feed):
     """Whether a row tells of this home and this feed."""
-    return isinstance(row[0], str) and isinstance(row[1], str) and row[0] == home and row[1] == feed
+    return is_word(row[0], home) and is_word(row[1], feed)
 
 
 def are_entries(grid, entries):

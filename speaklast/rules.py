@@ -32,6 +32,8 @@ class Place:
         self.brought = brought
         self.home = home
         self.known = net.known_site(site)
+        # The policy, apart from the site: so another one can be tried without another net.
+        self.word = self.known.policy
         self.voices = voices_at(net, brought, site, home)
 
     def cells_of(self, speaker):
@@ -41,7 +43,7 @@ class Place:
     def cells_against(self, speaker, other):
         """The tuple of the cells of another speaker that can be in the way of a speaker, ascending."""
         bits = self.brought[other]
-        if self.known.policy != "wait":
+        if self.word != "wait":
             # What both of them bring does no harm where nothing waits.
             bits = bits & ~self.brought[speaker]
         return self.sieve.cells_in(bits)
@@ -51,7 +53,7 @@ class Place:
         found = []
         for at, one in enumerate(self.voices):
             others = self.voices[at + 1:]
-            if self.known.policy != "wait":
+            if self.word != "wait":
                 others = self.voices[:at] + others
             found.extend([(one, other) for other in others])
         return found
@@ -59,6 +61,10 @@ class Place:
     def spots_of(self, columns):
         """The list of the places of these columns in a cell."""
         return [self.table.columns.index(column) for column in columns]
+
+    def spots_of_fibre(self):
+        """The list of the places in which cells of one fibre agree."""
+        return self.spots_of(self.table.key + (() if self.table.reuse else self.table.fixed))
 
 
 def failings_at(place, falls):
@@ -69,7 +75,7 @@ def failings_at(place, falls):
 
 def failings_of_falls(place):
     """The list of the feeds that cannot fall, each with its least cell."""
-    if place.known.policy != "wait":
+    if place.word != "wait":
         return []
     return [("fall", place.home, place.known.name, feed, place.cells_of(feed)[0])
             for feed in place.voices if feed != ""]
@@ -77,27 +83,25 @@ def failings_of_falls(place):
 
 def failings_of_fibres(place):
     """The list of the pairs of speakers that bring one fibre, each with the least cells."""
-    if place.known.policy in ("shares", "stamped"):
+    if place.word in ("shares", "stamped"):
         return []
     found = []
     for one, other in place.pairs():
-        pair = least_of_one_fibre(place, one, other)
+        pair = least_that_agree(place, one, other, place.spots_of_fibre())
         if pair is not None:
             found.append(("fibre", place.home, place.known.name, one, other, pair[0], pair[1]))
     return found
 
 
-def least_of_one_fibre(place, one, other):
-    """The least cells of one fibre, the first one from a speaker, the second one from another; or None."""
-    fixed = () if place.table.reuse else place.table.fixed
-    spots = place.spots_of(place.table.key + fixed)
+def least_that_agree(place, one, other, spots):
+    """The least cells that agree at the spots, the first one from a speaker, the second one from another; or None."""
     least = {}
     for cell in place.cells_against(one, other):
         least.setdefault(part_of(cell, spots), cell)
     for cell in place.cells_of(one):
-        fibre = part_of(cell, spots)
-        if fibre in least:
-            return (cell, least[fibre])
+        part = part_of(cell, spots)
+        if part in least:
+            return (cell, least[part])
     return None
 
 
@@ -119,7 +123,7 @@ def failings_of_values(place):
 
 
 def least_of_one_value(place, column, one, other):
-    """The least cells with one value and unlike keys, as in least_of_one_fibre; or None."""
+    """The least cells with one value and unlike keys, as in least_that_agree; or None."""
     at = place.table.columns.index(column)
     nothing = len(place.grid.stretches(column))
     keys = place.spots_of(place.table.key)

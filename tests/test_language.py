@@ -82,9 +82,17 @@ class StatementsTest(unittest.TestCase):
                     self.assertIsInstance(node, (ast.ImportFrom, ast.FunctionDef, ast.ClassDef), name)
 
     def test_statements_and_expressions_that_the_package_does_without(self):
-        barred = (ast.Try, ast.Global, ast.Nonlocal, ast.With, ast.Lambda, ast.GeneratorExp, ast.AsyncFunctionDef, ast.Await,
+        barred = (ast.Global, ast.Nonlocal, ast.With, ast.Lambda, ast.GeneratorExp, ast.AsyncFunctionDef, ast.Await,
                   ast.AnnAssign, ast.NamedExpr, ast.SetComp, ast.Set, ast.YieldFrom, ast.Div, ast.Import, ast.Match, ast.Assert)
         self.assertEqual([(name, node.lineno) for name, node in nodes(barred)], [])
+
+    def test_errors_that_are_caught_are_the_package_s_own(self):
+        own = {node.name for node in ast.walk(TREES["errors.py"]) if isinstance(node, ast.ClassDef)}
+        for name, node in nodes(ast.Try):
+            self.assertEqual((node.finalbody, node.orelse), ([], []), name)
+            for handler in node.handlers:
+                caught = handler.type.elts if isinstance(handler.type, ast.Tuple) else [handler.type]
+                self.assertLessEqual({one.id for one in caught}, own, name)
 
     def test_no_function_stands_in_a_function(self):
         for node in functions():
@@ -119,7 +127,7 @@ class StatementsTest(unittest.TestCase):
 
     def test_imported_names_are_defined_where_they_are_imported_from(self):
         defined = {name: {node.name for node in tree.body if isinstance(node, (ast.FunctionDef, ast.ClassDef))}
-                   for name, tree in TREES.items()}
+                   | {node.targets[0].id for node in tree.body if isinstance(node, ast.Assign)} for name, tree in TREES.items()}
         for name, node in nodes(ast.ImportFrom):
             for one in node.names:
                 self.assertIn(one.name, defined[node.module.split(".")[1] + ".py"], name)
