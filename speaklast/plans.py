@@ -105,7 +105,7 @@ def tasks_of(switch):
 
 
 def tasks_for(before, behind):
-    """The list of the pairs (kind, feed) that a key cell needs if it came through some feeds and comes through others."""
+    """The list of the pairs (kind, feed) that a key cell needs: the feeds through which it came, and will come."""
     gone = [feed for feed in before if feed not in behind]
     fresh = [feed for feed in behind if feed not in before]
     word = "leave" if behind else "sweep"
