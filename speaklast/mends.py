@@ -15,11 +15,12 @@ def mend(net, prices, *, falls=False):
     best = None
     for stamped in sets_of_sites(net.sites):
         if can_be_stamped(net, stamped) and not goes_round(net, scenes, stamped):
-            found = cheapest(choices, stamped)
-            if found is not None and (best is None or found < best):
-                best = found
+            least = cheapest(choices, stamped)
+            if least is not None and (best is None or least < best):
+                best = least
     if best is None:
-        return ("none", list(failings(net, falls=falls))[0])
+        found = list(failings(net, falls=falls))
+        return ("none", found[0])
     price, places = best
     return ("mend", with_policies(net, [Site.POLICIES[place] for place in places]), price)
 
@@ -44,8 +45,6 @@ def fits(net, site, word):
 
 def fails_with(scenes, site, word, falls):
     """Whether a site fails with a policy for one of the homes, if there is no ring."""
-    if word in ("shares", "stamped"):
-        return False
     for scene in scenes:
         place = scene.place_at(site)
         place.word = word

@@ -14,11 +14,12 @@ def ring_run(scene, sites, cell):
         run.make(scene.home, word, thing)
         for feed in way:
             run.deliver(feed)
+    done = tuple(run.events())
     feeds = []
     for feed in way_around(scene, sites, cell, entry):
         # The insert, and the delete behind it.
         feeds.extend([feed, feed])
-    return ("wrong", tuple(run.events()), ("round", tuple(feeds)))
+    return ("wrong", done, ("round", tuple(feeds)))
 
 
 def way_into(scene, sites, cell):

@@ -33,14 +33,24 @@ def finished(run, site):
     ending = ending_at(run, site)
     if ending is None or len(run) > MOST_EVENTS or not holds(run, ending):
         return None
-    return ("wrong", tuple(run.events()), ending)
+    done = tuple(run.events())
+    return ("wrong", done, ending)
+
+
+def shown_with(scene, site, changes, held):
+    """The wrong run in which these feeds are held back until all changes are made and delivered; or None."""
+    feeds = ahead(scene.wiring, site)
+    run = run_with(scene, changes, [feed for feed in feeds if feed not in held])
+    deliver_all(run, feeds)
+    return finished(run, site)
 
 
 def shown_by_fall(scene):
     """A wrong run with a fall into a site that waits, or None if none does."""
     for place in scene.places():
         for failing in failings_of_falls(place):
-            site, feed, cell = failing[2:]
+            site = place.known.name
+            feed, cell = failing[3:]
             run = run_with(scene, [("insert", scene.grid.sample(cell))], ahead(scene.wiring, site))
             wrong = finished(run, site)
             if wrong is None:
@@ -64,9 +74,7 @@ def shown_by_insert(scene):
     for place in scene.places():
         cell = common_cell(place)
         if place.word == "wait" and cell is not None:
-            site = place.known.name
-            run = run_with(scene, [("insert", scene.grid.sample(cell))], ahead(scene.wiring, site))
-            wrong = finished(run, site)
+            wrong = shown_with(scene, place.known.name, [("insert", scene.grid.sample(cell))], ())
             if wrong is not None:
                 return wrong
     return None
@@ -98,10 +106,7 @@ def shown_by_rows(scene, first, last):
     """A wrong run in which a row of the first cell is changed to one of the last cell, of one key; or None."""
     changes = changes_between(scene, first, last)
     for site, held in held_back(scene, first, last):
-        feeds = ahead(scene.wiring, site)
-        run = run_with(scene, changes, [feed for feed in feeds if feed not in held])
-        deliver_all(run, feeds)
-        wrong = finished(run, site)
+        wrong = shown_with(scene, site, changes, held)
         if wrong is not None:
             return wrong
     return None
@@ -141,11 +146,8 @@ def shown_by_value(scene):
     """A wrong run with one value for two keys, or None."""
     for place in scene.places():
         for failing in failings_of_values(place):
-            site, _, feed, _, first, last = failing[2:]
-            feeds = ahead(scene.wiring, site)
-            run = run_with(scene, changes_of_value(scene, first, last), [other for other in feeds if other != feed])
-            deliver_all(run, feeds)
-            wrong = finished(run, site)
+            changes = changes_of_value(scene, failing[6], failing[7])
+            wrong = shown_with(scene, place.known.name, changes, (failing[4],))
             if wrong is not None:
                 return wrong
     return None

@@ -190,7 +190,8 @@ class PlanTest(Asking):
         """A stretch behind the last bound starts beyond it; the boxes tell it by what is not in it."""
         last = 10 ** 12 - 1
         for where in (Filter.within("k", Ranges.between(None, last)), Filter.within("k", Ranges.between(-last, None)), Filter.within("k", Ranges.between(-last, last)),
-                      Filter.within("k", Ranges.between(-last, -last) | Ranges.between(5, last)), ~Filter.within("k", Ranges.between(-last, 7)) | of("k", last)):
+                      Filter.within("k", Ranges.between(-last, -last) | Ranges.between(5, last)), ~Filter.within("k", Ranges.between(-last, 7)) & Filter.within("k", Ranges.between(None, last)),
+                      ~Filter.within("k", Ranges.between(7, last)) & Filter.within("k", Ranges.between(-last, None)), ~Filter.within("k", Ranges.between(-last, 7)) | of("k", last)):
             for other in (~where, NEVER, ALL):
                 for step in self.planned(ONE.with_filter("e", where), ONE.with_filter("e", other)):
                     if step[0] != "rest":
@@ -225,6 +226,30 @@ class PlanTest(Asking):
         for at in range(0, 19, 2):
             stairs = stairs | steps[at]
         self.assertIs(shows_plan(net, net.with_filter("e", stairs), plan(net, net.with_filter("e", stairs))), True)
+
+    def test_the_longer_key_column(self):
+        """Seventy stretches beside twenty: there are no more terms than twenty."""
+        table = Table("k", "l", key=("k", "l"))
+        chance = random.Random(66)
+        for long, short in (("k", "l"), ("l", "k")):
+            net = Net(table, Site("h", "k", "l", home=ALL), Site("c", "k", "l"), Feed("e", "h", "c", where=NEVER))
+            where = NEVER
+            for _ in range(15):
+                where = where | of(long, *chance.sample(range(68), 25)) & of(short, *chance.sample(range(18), 8))
+            told = plan(net, net.with_filter("e", where))
+            self.assertIs(shows_plan(net, net.with_filter("e", where), told), True)
+            self.assertLessEqual(conditions(told[1][0][2].tree), 40)
+
+    def test_more_conditions_than_allowed(self):
+        """Thirty rows of pairs, each with stretches beyond the last bounds of twelve digits: here the box tells these bounds."""
+        last = 10 ** 12 - 1
+        rows = [of("k", at) & Filter.within("l", Ranges.between(None, -last - 1) | Ranges.of(at) | Ranges.between(40, last)) for at in range(30)]
+        while len(rows) > 1:
+            rows = [one | other for one, other in zip(rows[::2], rows[1::2])] + rows[len(rows) - len(rows) % 2:]
+        table = Table("k", "l", key=("k", "l"))
+        net = Net(table, Site("h", "k", "l", home=ALL), Site("c", "k", "l"), Feed("e", "h", "c", where=NEVER))
+        steps = self.planned(net, net.with_filter("e", rows[0]))
+        self.assertEqual([step[:2] for step in steps], [("copy", "e")])
 
     def test_by_chance(self):
         chance, seen = random.Random(62), {}
@@ -357,6 +382,11 @@ class ShowsPlanTest(Asking):
         self.accepted(half, half.with_filter("e", of("k", 3)), [("copy", "e", of("k", 3, 10, 11))])
         self.refused(half, half.with_filter("e", of("k", 3)), [("copy", "e", of("k", 3, 4))])
         self.accepted(half, half.with_filter("e", of("k", 3)), [("leave", "f", of("k", 5)), ("copy", "e", of("k", 3)), ("again", "e", of("k", 3, 5))])
+
+    def test_what_a_source_does_not_want_may_be_copied(self):
+        net = Net(TABLE, Site("h", "k", "r", home=ALL), Site("a", "k", "r"), Site("c", "k", "r"), Feed("e", "h", "a", where=HIGH), Feed("f", "a", "c", where=NEVER))
+        self.accepted(net, net.with_filter("f", HIGH), [("copy", "f", ALL)])
+        self.refused(net.with_filter("e", ALL), net.with_filter("e", ALL).with_filter("f", HIGH), [("copy", "f", ALL)])
 
     def test_an_own_feed_copies_what_its_home_makes(self):
         net = Net(TABLE, Site("g", "k", "r", home=HIGH), Site("h", "k", "r", home=LOW), Site("c", "k", "r"), Feed("e", "h", "g"), Feed("f", "g", "c", own=True, where=NEVER),

@@ -23,6 +23,7 @@ from words import Words
 
 TWICE = NET.with_filter("f", ALL)
 HUGE = NET.with_filter("f", Filter.within("k", Ranges.of(*range(0, 1000, 2))))
+TWOS = Filter.within("r", Ranges.between(2, None))
 ONE_KEY = Filter.within("k", Ranges.of(5))
 MIXED = ("mixed", (("make", "h", "insert", (0, 0)), ("make", "h", "delete", (0,)), ("make", "h", "insert", (1, 0)),
                    ("deliver", "f"), ("deliver", "f"), ("deliver", "f"), ("deliver", "e")))
@@ -138,6 +139,15 @@ class WaysTest(Asking):
         self.assertEqual(ways(net, "sa", "sc"), ())
         both = net.with_feed(Feed("x", "sa", "sb", where=~ONES))
         self.assertEqual(ways(both, "sa", "sc"), (("x", "fb"),))
+
+    def test_each_single_cell_counts(self):
+        grid = Grid(chain(3).with_filter("fa", ONES & LOW))
+        for cell in grid.cells():
+            row = dict(zip(("k", "r"), grid.sample(cell)))
+            just = LOW if row["k"] < 10 else HIGH
+            just = just & (Filter.missing("r") if row["r"] is None else ONES if row["r"] == 1 else Filter.within("r", Ranges.between(None, 0)) if row["r"] < 1 else TWOS)
+            net = chain(3).with_filter("fa", ONES & LOW | just).with_filter("fb", just)
+            self.assertEqual(ways(net, "sa", "sc"), (("fa", "fb"),))
 
     def test_ways_that_lead_nowhere_are_not_followed(self):
         loop = Net(TABLE, *[Site(name, "k", "r", home=ALL if name == "h" else None) for name in "habz"],

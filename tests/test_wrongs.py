@@ -335,7 +335,11 @@ class ShowsWrongTest(Asking):
         self.refused(RING, bend(ROUND, (1,), ROUND[1][:1]))
 
     def test_rounds_over_sites_that_share_or_are_stamped(self):
-        """A pending message of a feed out of a ring would change nothing there; but such targets do not count."""
+        """A feed out of a ring brings its site the same rows again and again; but a site that shares does not count."""
+        for word, holds in (("put", True), ("skip", True), ("wait", True), ("shares", False)):
+            net = Net(TABLE, *[RING.site(name) for name in RING.sites], Site("z", "k", "r", policy=word), RING.feed("p"), RING.feed("q"), Feed("x", "a", "z"))
+            self.assertIs(shows_wrong(net, bend(ROUND, (2, 1), ("p", "p", "q", "q", "x", "x"))), holds)
+            self.assertIs(shows_wrong(net, ROUND), True)
         ring = RING.with_feed(Feed("x", "h", "a"))
         self.assertIs(shows_wrong(ring, ROUND), True)
         for word in ("shares", "stamped"):
@@ -385,6 +389,16 @@ class FewestTest(Asking):
 
     def test_a_feed_without_cells_does_no_harm(self):
         self.assertEqual(fewest_changes(FALLING.with_filter("e", NEVER), falls=True), 0)
+
+    def test_what_does_not_fail_does_not_count(self):
+        """A home that waits, to which no feed leads, does not fall; a site that shares has no failing pairs of cells."""
+        self.assertEqual(fewest_changes(NET.with_policy("h", "wait"), falls=True), 2)
+        table = Table("k", "r", "u", key=("k",), fixed=("r",))
+        ones = Filter.within("u", Ranges.of(1))
+        net = Net(table, Site("h", "k", "r", "u", home=ALL), Site("c", "k", "r", "u"), Site("d", "k", "r", "u", policy="shares"), Feed("e", "h", "c", where=TWOS),
+                  Feed("f", "h", "c", where=ONES), Feed("g", "h", "d", where=ONES & ones), Feed("i", "h", "d", where=ONES))
+        self.assertEqual(fewest_changes(net), 3)
+        self.assertEqual(fewest_changes(net.with_policy("d", "put")), 2)
 
     def test_two_and_three(self):
         apart = NET.with_filter("e", TWOS)
