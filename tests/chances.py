@@ -1,6 +1,6 @@
 """Nets, rows and histories by chance, for tests that compare the program with slow words of their own."""
 
-from speaklast.errors import Blocked, InvalidChange, InvalidNet, NothingPending
+from speaklast.errors import Blocked, InvalidChange, InvalidFall, InvalidNet, NothingPending
 from speaklast.feeds import Feed
 from speaklast.filters import Filter
 from speaklast.nets import Net
@@ -120,3 +120,18 @@ def settle_by_chance(chance, run, most=400):
         if not deliver_by_chance(chance, run):
             return True
     return False
+
+
+def drive_by_chance(chance, run, falls, events):
+    """Changes, deliveries and, if falls are asked, falls in some order."""
+    for _ in range(events):
+        kind = chance.random()
+        if kind < 0.4:
+            make_by_chance(chance, run)
+        elif kind < 0.55 and falls and run.net.feeds:
+            try:
+                run.fall(chance.choice(run.net.feeds), back=chance.randrange(1, 5))
+            except InvalidFall:
+                pass
+        else:
+            deliver_by_chance(chance, run)

@@ -1,13 +1,13 @@
-"""Points 16, 28 and 35: judgements, and what is promised of nets that are judged right."""
+"""Points 16 and 28: judgements, and what is promised of nets that are judged right."""
 
 import random
 import unittest
 
-from chances import chance_net, chance_row, deliver_by_chance, make_by_chance, settle_by_chance
-from examples import ALL, HIGH, LOW, NET, NEVER, ONES, RING, TABLE, chain
+from chances import chance_net, chance_row, drive_by_chance, settle_by_chance
+from examples import ALL, HIGH, LOW, NET, NEVER, RING, TABLE, chain
 from orders import Orders
 from speaklast.cells import Grid
-from speaklast.errors import InvalidFall, InvalidFeed, TooMany
+from speaklast.errors import InvalidFeed, TooMany
 from speaklast.feeds import Feed
 from speaklast.filters import Filter
 from speaklast.judging import judged
@@ -17,28 +17,16 @@ from speaklast.ranges import Ranges
 from speaklast.rules import failings
 from speaklast.runs import Run
 from speaklast.sites import Site
-from speaklast.tables import Table
 from speaklast.wrongs import shows_wrong
 from words import Words
 
 HUGE = NET.with_filter("f", Filter.within("k", Ranges.of(*range(0, 1000, 2))))
-WIDE_TABLE = Table("k", "l", "r", "u", key=("k", "l"), fixed=("r",), unique=("u",), reuse=False)
 
 
 def end_right(test, chance, net, falls, events=25):
     """A run by chance, which ends right."""
     run = Run(net)
-    for _ in range(events):
-        kind = chance.random()
-        if kind < 0.4:
-            make_by_chance(chance, run)
-        elif kind < 0.55 and falls and net.feeds:
-            try:
-                run.fall(chance.choice(net.feeds), back=chance.randrange(1, 5))
-            except InvalidFall:
-                pass
-        else:
-            deliver_by_chance(chance, run)
+    drive_by_chance(chance, run, falls, events)
     test.assertIs(settle_by_chance(chance, run, most=3000), True)
     test.assertEqual((run.stuck, [run.right(site) for site in net.sites]), ((), [True] * len(net)))
 

@@ -125,12 +125,14 @@ class MendTest(unittest.TestCase):
         self.none(SOLE.with_policy("c", "wait"), {"shares": 0, "stamped": 0, "skip": 0}, falls=True)
 
     def test_two_homes(self):
-        net = Net(TABLE, Site("a", "k", "r", home=LOW), Site("b", "k", "r", home=HIGH), Site("c", "k", "r"), Feed("e", "a", "c", own=True), Feed("f", "b", "c"),
+        net = Net(TABLE, Site("a", "k", "r", home=LOW), Site("b", "k", "r", home=HIGH), Site("c", "k", "r"), Feed("e", "a", "c", own=True),
+                  Feed("f", "b", "c"),
                   Feed("g", "b", "c", where=ONES), Feed("i", "c", "a", where=HIGH))
         self.mended(net, {"shares": 10 ** 6, "stamped": 10 ** 6, "skip": 0}, "skip skip shares", 10 ** 6)
 
     def test_an_empty_region_and_no_feeds(self):
-        empty = Net(TABLE, Site("h", "k", "r", home=NEVER, policy="wait"), Site("c", "k", "r", policy="wait"), Feed("e", "h", "c"), Feed("f", "h", "c"))
+        empty = Net(TABLE, Site("h", "k", "r", home=NEVER, policy="wait"), Site("c", "k", "r", policy="wait"), Feed("e", "h", "c"),
+                    Feed("f", "h", "c"))
         self.mended(empty, {"stamped": 0}, "wait wait", 0, falls=True)
         self.mended(chain(1), {"wait": 0}, "wait", 0)
 

@@ -165,7 +165,8 @@ class PlanTest(Asking):
 
     def test_own_feeds_and_two_homes(self):
         net = Net(TABLE, Site("a", "k", "r", home=LOW), Site("b", "k", "r", home=HIGH), Site("c", "k", "r"), Site("d", "r", "k"),
-                  Feed("e", "a", "c", own=True), Feed("f", "b", "c"), Feed("g", "a", "b"), Feed("i", "b", "d"), Feed("j", "b", "d", own=True, where=NEVER))
+                  Feed("e", "a", "c", own=True), Feed("f", "b", "c"), Feed("g", "a", "b"), Feed("i", "b", "d"),
+                  Feed("j", "b", "d", own=True, where=NEVER))
         self.planned(net, net.with_filter("j", ALL).with_filter("e", of("k", 1, 2, 30)))
         self.planned(net, net.with_filter("j", ALL).with_filter("i", LOW))
         self.planned(net.with_filter("i", of("k", 20)), net.with_filter("i", NEVER).with_filter("j", of("k", 20)))
@@ -180,7 +181,8 @@ class PlanTest(Asking):
 
     def test_unchanged_feeds_are_not_looked_at(self):
         """A feed with another filter than over key columns may stay as it is, and speak again."""
-        net = Net(TABLE, Site("h", "k", "r", home=ALL), Site("a", "k", "r"), Site("c", "k", "r"), Feed("d", "h", "a", where=ONES), Feed("e", "a", "c"),
+        net = Net(TABLE, Site("h", "k", "r", home=ALL), Site("a", "k", "r"), Site("c", "k", "r"), Feed("d", "h", "a", where=ONES),
+                  Feed("e", "a", "c"),
                   Feed("f", "h", "c", where=ONES), Feed("g", "a", "c", where=NEVER))
         steps = self.planned(net, net.with_filter("e", LOW))
         self.assertEqual([step[:2] for step in steps], [("leave", "e"), ("rest", "e"), ("again", "f")])
@@ -189,9 +191,12 @@ class PlanTest(Asking):
     def test_bounds_of_twelve_digits(self):
         """A stretch behind the last bound starts beyond it; the boxes tell it by what is not in it."""
         last = 10 ** 12 - 1
-        for where in (Filter.within("k", Ranges.between(None, last)), Filter.within("k", Ranges.between(-last, None)), Filter.within("k", Ranges.between(-last, last)),
-                      Filter.within("k", Ranges.between(-last, -last) | Ranges.between(5, last)), ~Filter.within("k", Ranges.between(-last, 7)) & Filter.within("k", Ranges.between(None, last)),
-                      ~Filter.within("k", Ranges.between(7, last)) & Filter.within("k", Ranges.between(-last, None)), ~Filter.within("k", Ranges.between(-last, 7)) | of("k", last)):
+        for where in (Filter.within("k", Ranges.between(None, last)), Filter.within("k", Ranges.between(-last, None)),
+                      Filter.within("k", Ranges.between(-last, last)),
+                      Filter.within("k", Ranges.between(-last, -last) | Ranges.between(5, last)),
+                      ~Filter.within("k", Ranges.between(-last, 7)) & Filter.within("k", Ranges.between(None, last)),
+                      ~Filter.within("k", Ranges.between(7, last)) & Filter.within("k", Ranges.between(-last, None)),
+                      ~Filter.within("k", Ranges.between(-last, 7)) | of("k", last)):
             for other in (~where, NEVER, ALL):
                 for step in self.planned(ONE.with_filter("e", where), ONE.with_filter("e", other)):
                     if step[0] != "rest":
@@ -276,7 +281,8 @@ class NoPlanTest(Asking):
     def test_akin(self):
         table = Table("k", "r", key=("k",), reuse=False)
         for other in (ONE.without("f"), ONE.with_policy("c", "skip"), ONE.with_feed(Feed("g", "h", "c", where=NEVER)), RING,
-                      Net(TABLE, ONE.site("c"), ONE.site("h"), ONE.feed("e"), ONE.feed("f")), Net(TABLE, ONE.site("h"), ONE.site("c"), ONE.feed("f"), ONE.feed("e")),
+                      Net(TABLE, ONE.site("c"), ONE.site("h"), ONE.feed("e"), ONE.feed("f")),
+                      Net(TABLE, ONE.site("h"), ONE.site("c"), ONE.feed("f"), ONE.feed("e")),
                       Net(table, ONE.site("h"), ONE.site("c"), ONE.feed("e"), ONE.feed("f")),
                       Net(TABLE, Site("h", "k", "r", home=LOW), ONE.site("c"), ONE.feed("e"), ONE.feed("f")),
                       Net(TABLE, Site("h", "k", "r", home=ALL | ALL), ONE.site("c"), ONE.feed("e"), ONE.feed("f")),
@@ -318,7 +324,8 @@ class NoPlanTest(Asking):
         self.assertEqual(plan(same, same), ("plan", []))
 
     def test_relay(self):
-        net = Net(TABLE, Site("h", "k", "r", home=ALL), Site("a", "k", "r"), Site("b", "k", "r"), Feed("e", "h", "a"), Feed("f", "a", "b"), Feed("g", "h", "b"))
+        net = Net(TABLE, Site("h", "k", "r", home=ALL), Site("a", "k", "r"), Site("b", "k", "r"), Feed("e", "h", "a"), Feed("f", "a", "b"),
+                  Feed("g", "h", "b"))
         self.none(net, net.with_filter("e", LOW), "relay", "a")
         self.none(net, net.with_filter("e", LOW).with_filter("f", of("k", 1)), "relay", "a")
         self.planned(net, net.with_filter("f", LOW))
@@ -328,7 +335,8 @@ class NoPlanTest(Asking):
         self.planned(net, net.with_filter("f", NEVER).with_filter("g", LOW))
 
     def test_reasons_in_their_order(self):
-        net = Net(TABLE, Site("h", "k", "r", home=ALL), Site("a", "k", "r"), Site("b", "k", "r", policy="skip"), Feed("e", "h", "a"), Feed("f", "a", "b"))
+        net = Net(TABLE, Site("h", "k", "r", home=ALL), Site("a", "k", "r"), Site("b", "k", "r", policy="skip"), Feed("e", "h", "a"),
+                  Feed("f", "a", "b"))
         self.none(net, net.with_filter("e", LOW).with_filter("f", LOW), "feed", "f")
         self.none(net, net.with_filter("e", LOW), "relay", "a")
         fails = net.with_feed(Feed("g", "h", "b"))
@@ -353,9 +361,12 @@ class NoPlanTest(Asking):
         one, other = ONE.with_filter("e", evens(200)), ONE
         box = of("k", *range(1001, 1401, 2))
         self.assertEqual(self.raised(lambda: shows_plan(one, other, ("plan", [("copy", "e", box)])), TooMany).count, 1602)
-        self.assertEqual(self.raised(lambda: shows_plan(one, other, ("plan", (("copy", "e", ~evens(200)), ("again", "f", box)))), TooMany).count, 1602)
-        for thing in (("plan", [("copy", "e", box), ("leave", "e", box)]), ("plan", [("copy", "e", box), ("copy", "e", box)]), ["plan", [("copy", "e", box)]],
-                      ("plan", [["copy", "e", box]]), ("plan", [("copy", "h", box)]), ("plan", [("copy", "e", box & ONES)]), ("plan", [("rest", "e", box)])):
+        self.assertEqual(self.raised(lambda: shows_plan(one, other, ("plan", (("copy", "e", ~evens(200)), ("again", "f", box)))), TooMany).count,
+                         1602)
+        for thing in (("plan", [("copy", "e", box), ("leave", "e", box)]), ("plan", [("copy", "e", box), ("copy", "e", box)]),
+                      ["plan", [("copy", "e", box)]],
+                      ("plan", [["copy", "e", box]]), ("plan", [("copy", "h", box)]), ("plan", [("copy", "e", box & ONES)]),
+                      ("plan", [("rest", "e", box)])):
             self.assertIs(shows_plan(one, other, thing), False)
 
 
@@ -384,12 +395,14 @@ class ShowsPlanTest(Asking):
         self.accepted(half, half.with_filter("e", of("k", 3)), [("leave", "f", of("k", 5)), ("copy", "e", of("k", 3)), ("again", "e", of("k", 3, 5))])
 
     def test_what_a_source_does_not_want_may_be_copied(self):
-        net = Net(TABLE, Site("h", "k", "r", home=ALL), Site("a", "k", "r"), Site("c", "k", "r"), Feed("e", "h", "a", where=HIGH), Feed("f", "a", "c", where=NEVER))
+        net = Net(TABLE, Site("h", "k", "r", home=ALL), Site("a", "k", "r"), Site("c", "k", "r"), Feed("e", "h", "a", where=HIGH),
+                  Feed("f", "a", "c", where=NEVER))
         self.accepted(net, net.with_filter("f", HIGH), [("copy", "f", ALL)])
         self.refused(net.with_filter("e", ALL), net.with_filter("e", ALL).with_filter("f", HIGH), [("copy", "f", ALL)])
 
     def test_an_own_feed_copies_what_its_home_makes(self):
-        net = Net(TABLE, Site("g", "k", "r", home=HIGH), Site("h", "k", "r", home=LOW), Site("c", "k", "r"), Feed("e", "h", "g"), Feed("f", "g", "c", own=True, where=NEVER),
+        net = Net(TABLE, Site("g", "k", "r", home=HIGH), Site("h", "k", "r", home=LOW), Site("c", "k", "r"), Feed("e", "h", "g"),
+                  Feed("f", "g", "c", own=True, where=NEVER),
                   Feed("i", "g", "c", where=NEVER))
         self.accepted(net, net.with_filter("f", HIGH), [("copy", "f", ALL)])
         self.refused(net, net.with_filter("i", HIGH), [("copy", "i", ALL)])
@@ -412,9 +425,11 @@ class ShowsPlanTest(Asking):
     def test_by_another_feed_that_stays(self):
         three = NET.with_filter("f", ALL).with_feed(Feed("g", "h", "c"))
         other = three.with_filter("e", LOW)
-        for steps in ([("again", "f", HIGH)], [("again", "g", HIGH)], [("again", "f", of("k", 10, 11)), ("again", "g", Filter.within("k", Ranges.between(12, None)))]):
+        for steps in ([("again", "f", HIGH)], [("again", "g", HIGH)],
+                      [("again", "f", of("k", 10, 11)), ("again", "g", Filter.within("k", Ranges.between(12, None)))]):
             self.accepted(three, other, [("leave", "e", HIGH), ("rest", "e")] + steps)
-        self.refused(three, other, [("leave", "e", HIGH), ("rest", "e"), ("again", "f", of("k", 10, 11)), ("again", "g", Filter.within("k", Ranges.between(13, None)))])
+        self.refused(three, other, [("leave", "e", HIGH), ("rest", "e"), ("again", "f", of("k", 10, 11)),
+                                    ("again", "g", Filter.within("k", Ranges.between(13, None)))])
 
     def test_bent_in_one_place(self):
         steps = DONE[1]
@@ -510,7 +525,8 @@ def chance_plan_net(chance):
     if split:
         sites.append(Site("g", *table.columns, home=of("k", 2, 3), policy=chance.choice(("put", "stamped"))))
     for name in "abc"[:chance.randint(1, 3)]:
-        sites.append(Site(name, *(table.columns if chance.random() < 0.7 else key), policy=chance.choice(("put", "put", "put", "put", "skip", "shares"))))
+        sites.append(Site(name, *(table.columns if chance.random() < 0.7 else key),
+                          policy=chance.choice(("put", "put", "put", "put", "skip", "shares"))))
     feeds = []
     for letter in "qrstuvw"[:chance.randint(1, 7)]:
         source, target = chance.sample(sites, 2)

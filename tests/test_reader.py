@@ -5,7 +5,7 @@ import unittest
 
 from chances import chance_net, chance_table
 from examples import ALL, HIGH, LOW, NET, NEVER, ONES, PAIRED, RING, SOLE, TABLE, WIDE, chain
-from speaklast.errors import InvalidFeed, InvalidNet, InvalidSite, InvalidTable, InvalidText, TooMany
+from speaklast.errors import InvalidNet, InvalidSite, InvalidTable, InvalidText, TooMany
 from speaklast.feeds import Feed
 from speaklast.filters import Filter
 from speaklast.nets import Net
@@ -54,14 +54,17 @@ class RangesTest(Asking):
         for ranges, text in ((Ranges.of(3), "3"), (Ranges.between(1, 5), "1..5"), (Ranges.between(None, 0), "..0"), (Ranges.between(7, None), "7.."),
                              (Ranges.full(), ".."), (Ranges.empty(), "-"), (Ranges.of(-1), "-1"), (Ranges.between(-5, -3), "-5..-3"),
                              (Ranges.of(0, 2, 4), "0,2,4"), (Ranges.between(None, -2) | Ranges.of(0) | Ranges.between(9, None), "..-2,0,9.."),
-                             (Ranges.between(-LAST, LAST), f"-{LAST}..{LAST}"), (Ranges.between(-1, 0), "-1..0"), (Ranges.full() - Ranges.of(0), "..-1,1..")):
+                             (Ranges.between(-LAST, LAST), f"-{LAST}..{LAST}"), (Ranges.between(-1, 0), "-1..0"),
+                             (Ranges.full() - Ranges.of(0), "..-1,1..")):
             self.agree(show_ranges, read_ranges, ranges, text)
         self.assertEqual(read_ranges(text="3").parts, ((3, 3),))
         self.assertEqual(show_ranges(ranges=Ranges.of(1, 2, 4)), "1..2,4")
 
     def test_what_is_not_written_so(self):
-        for text in ("", "--", "+1", "01", "-0", "-01", "00", "3..3", "5..1", "0..-1", "1,2", "1..2,3", "1..3,2", "3,1", "1,1", "..1,..2", "1..,2", "..,3",
-                     "1..,..0", ",", "1,", ",1", "1,,3", "1,-", "-,1", "...", "1...2", "1..2..3", "1.2", ".", "1_0", "0x1", "a", "none", "..0,1", "..-0",
+        for text in ("", "--", "+1", "01", "-0", "-01", "00", "3..3", "5..1", "0..-1", "1,2", "1..2,3", "1..3,2", "3,1", "1,1", "..1,..2", "1..,2",
+                     "..,3",
+                     "1..,..0", ",", "1,", ",1", "1,,3", "1,-", "-,1", "...", "1...2", "1..2..3", "1.2", ".", "1_0", "0x1", "a", "none", "..0,1",
+                     "..-0",
                      "1234567890123", "-1234567890123", "1..1234567890123", "-..5", "5..-", "1e3", "\t1", "1\t"):
             self.refused(read_ranges, text, 0, 0)
 
@@ -104,10 +107,13 @@ class FiltersTest(Asking):
             self.agree(show_filter, read_filter, Filter.within(name, Ranges.of(1)) & Filter.missing(name), f"& in {name} 1 missing {name}")
 
     def test_words_that_cannot_stand(self):
-        for text, word in (("", 0), ("Always", 0), ("alwaysx", 0), ("in", 1), ("in k", 2), ("missing", 1), ("&", 1), ("& always", 2), ("~", 1), ("| ~ never", 3),
-                           ("in K 1", 1), ("in 1 k", 1), ("in k k", 2), ("in k 01", 2), ("missing toolongna", 1), ("missing k k", 2), ("always always", 1),
+        for text, word in (("", 0), ("Always", 0), ("alwaysx", 0), ("in", 1), ("in k", 2), ("missing", 1), ("&", 1), ("& always", 2), ("~", 1),
+                           ("| ~ never", 3),
+                           ("in K 1", 1), ("in 1 k", 1), ("in k k", 2), ("in k 01", 2), ("missing toolongna", 1), ("missing k k", 2),
+                           ("always always", 1),
                            ("& always always always", 3), ("& & always", 3), ("~ always never", 2), ("always ", 1), ("  always", 0), ("in  k 1", 1),
-                           ("in k 1 ", 3), ("and always always", 0), ("& always maybe", 2), ("in k 3..3", 2), ("in k 1,2", 2), ("missing", 1), ("~~ always", 0)):
+                           ("in k 1 ", 3), ("and always always", 0), ("& always maybe", 2), ("in k 3..3", 2), ("in k 1,2", 2), ("missing", 1),
+                           ("~~ always", 0)):
             self.refused(read_filter, text, 0, word)
         self.refused(read_filter, "always\n", 1, 0)
         self.refused(read_filter, "& always\nalways", 0, 2)
@@ -176,31 +182,39 @@ class TablesTest(Asking):
     def test_both_ways(self):
         for table, text in ((TABLE, "table k r\nkey k"), (SOLE.table, "table k u\nkey k\nunique u"), (PAIRED, "table a k r l\nkey k l\nfixed a"),
                             (Table("k", "r", key=("k",), reuse=False), "table k r\nkey k\nonce"),
-                            (Table("a", "b", "c", "d", key=("b",), fixed=("d", "a"), unique=("a", "c"), reuse=False), "table a b c d\nkey b\nfixed a d\nunique a c\nonce")):
+                            (Table("a", "b", "c", "d", key=("b",), fixed=("d", "a"), unique=("a", "c"), reuse=False),
+                             "table a b c d\nkey b\nfixed a d\nunique a c\nonce")):
             self.agree(show_table, read_table, table, text)
             self.assertEqual(show_table(table=read_table(text=text)), text)
 
     def test_columns_are_read_in_any_order(self):
-        self.assertEqual(read_table("table a k r l\nkey l k\nfixed r a\nunique r a"), Table("a", "k", "r", "l", key=("k", "l"), fixed=("a", "r"), unique=("a", "r")))
+        self.assertEqual(read_table("table a k r l\nkey l k\nfixed r a\nunique r a"),
+                         Table("a", "k", "r", "l", key=("k", "l"), fixed=("a", "r"), unique=("a", "r")))
 
     def test_columns_called_like_words_of_the_texts(self):
         table = Table("table", "key", "fixed", "once", key=("key", "table"), fixed=("once", "fixed"))
         self.agree(show_table, read_table, table, "table table key fixed once\nkey table key\nfixed fixed once")
 
     def test_words_that_cannot_stand(self):
-        for text, line, word in (("", 0, 0), ("table", 0, 1), ("tables k", 0, 0), ("key k", 0, 0), ("table k", 1, 0), ("table k\n", 1, 0), ("table k\nkey", 1, 1),
+        for text, line, word in (("", 0, 0), ("table", 0, 1), ("tables k", 0, 0), ("key k", 0, 0), ("table k", 1, 0), ("table k\n", 1, 0),
+                                 ("table k\nkey", 1, 1),
                                  ("table k\nkeys k", 1, 0), ("table k\nfixed k\nkey k", 1, 0), ("table k K\nkey k", 0, 2), ("table k\nkey 1", 1, 1),
-                                 ("table k\nkey k\n", 2, 0), ("table k\nkey k\nfixed", 2, 1), ("table k r\nkey k\nunique", 2, 1), ("table k r\nkey k\nonce r", 2, 1),
-                                 ("table k r\nkey k\nonce\nonce", 3, 0), ("table k r\nkey k\nunique r\nfixed r", 3, 0), ("table k r\nkey k\nonce\nfixed r", 3, 0),
+                                 ("table k\nkey k\n", 2, 0), ("table k\nkey k\nfixed", 2, 1), ("table k r\nkey k\nunique", 2, 1),
+                                 ("table k r\nkey k\nonce r", 2, 1),
+                                 ("table k r\nkey k\nonce\nonce", 3, 0), ("table k r\nkey k\nunique r\nfixed r", 3, 0),
+                                 ("table k r\nkey k\nonce\nfixed r", 3, 0),
                                  ("table k r\nkey k\nfixed r\nfixed r", 3, 0), ("table k r\nkey k\nsite c put k", 2, 0), ("table k r \nkey k", 0, 3),
-                                 ("table  k\nkey k", 0, 1), (" table k\nkey k", 0, 0), ("table k\n\nkey k", 1, 0), ("table k\nkey k \nx", 1, 2), ("table abcdefghi\nkey k", 0, 1),
+                                 ("table  k\nkey k", 0, 1), (" table k\nkey k", 0, 0), ("table k\n\nkey k", 1, 0), ("table k\nkey k \nx", 1, 2),
+                                 ("table abcdefghi\nkey k", 0, 1),
                                  ("table k r\nkey k\nfixed r :", 2, 2), ("table k r\nkey k\nfixed Fixed", 2, 1), ("table k?\nkey", 0, 1)):
             self.refused(read_table, text, line, word)
 
     def test_errors_of_tables_behind_a_right_form(self):
-        for text, reason in (("table k k\nkey k", "columns"), ("table a b c d e\nkey a", "columns"), ("table k r\nkey x", "key"), ("table k r s\nkey k r s", "key"),
+        for text, reason in (("table k k\nkey k", "columns"), ("table a b c d e\nkey a", "columns"), ("table k r\nkey x", "key"),
+                             ("table k r s\nkey k r s", "key"),
                              ("table k r\nkey k k", "key"), ("table k r\nkey k\nfixed k", "fixed"), ("table k r\nkey k\nfixed r r", "fixed"),
-                             ("table k r\nkey k\nunique x", "unique"), ("table k r\nkey k\nfixed x\nunique x", "fixed"), ("table k k\nkey x\nunique x", "columns")):
+                             ("table k r\nkey k\nunique x", "unique"), ("table k r\nkey k\nfixed x\nunique x", "fixed"),
+                             ("table k k\nkey x\nunique x", "columns")):
             self.raised(read_table, text, InvalidTable, reason)
         self.refused(read_table, "table k k\nkey k\nfixed", 2, 1)
 
@@ -229,7 +243,8 @@ class NetsTest(Asking):
 
     def test_names_called_like_words_of_the_texts(self):
         table = Table("in", "always", key=("in",))
-        net = Net(table, Site("site", "always", "in", home=Filter.within("in", Ranges.of(1))), Site("feed", "in", policy="wait"), Feed("own", "site", "feed", own=True),
+        net = Net(table, Site("site", "always", "in", home=Filter.within("in", Ranges.of(1))), Site("feed", "in", policy="wait"),
+                  Feed("own", "site", "feed", own=True),
                   Feed("home", "site", "feed", where=Filter.missing("always")))
         self.agree(show_net, read_net, net, "table in always\nkey in\nhome site put always in : in in 1\nsite feed wait in\nown own site feed always\n"
                                             "feed home site feed missing always")
@@ -246,26 +261,34 @@ class NetsTest(Asking):
         self.refused(read_net, "\n".join(lines[:3] + [line] + (told or lines[4:])), 3, word)
 
     def test_lines_of_sites(self):
-        for line, word in (("", 0), ("site", 1), ("site c", 2), ("site c put", 3), ("site c Put k", 2), ("site c puts k", 2), ("site c put K", 3), ("site C put k", 1),
-                           ("site c put k :", 4), ("site c put k : always", 4), ("site c put k ", 4), ("site  c put k", 1), ("sites c put k", 0), ("site c put k r 1", 5),
-                           ("site put c", 2), ("table k r", 0), ("key k", 0), ("once", 0), ("fixed r", 0), ("Site c put k", 0), ("site abcdefghi put k", 1)):
+        for line, word in (("", 0), ("site", 1), ("site c", 2), ("site c put", 3), ("site c Put k", 2), ("site c puts k", 2), ("site c put K", 3),
+                           ("site C put k", 1),
+                           ("site c put k :", 4), ("site c put k : always", 4), ("site c put k ", 4), ("site  c put k", 1), ("sites c put k", 0),
+                           ("site c put k r 1", 5),
+                           ("site put c", 2), ("table k r", 0), ("key k", 0), ("once", 0), ("fixed r", 0), ("Site c put k", 0),
+                           ("site abcdefghi put k", 1)):
             self.line(line, word)
 
     def test_lines_of_homes(self):
         for line, word in (("home", 1), ("home c", 2), ("home c put", 3), ("home c put k r", 5), ("home c put k r :", 6), ("home c put : always", 3),
-                           ("home c put k r : maybe", 6), ("home c put k r : always always", 7), ("home c put k r always", 6), ("home c put k R : always", 4),
-                           ("home c put k r :always", 5), ("home c put k r : in k", 8), ("home c put k r : in k 01", 8), ("home c put k r : & always", 8),
+                           ("home c put k r : maybe", 6), ("home c put k r : always always", 7), ("home c put k r always", 6),
+                           ("home c put k R : always", 4),
+                           ("home c put k r :always", 5), ("home c put k r : in k", 8), ("home c put k r : in k 01", 8),
+                           ("home c put k r : & always", 8),
                            ("home c put k r : always ", 7), ("home c put k r  : always", 5), ("home c no k r : always", 2)):
             self.line(line, word)
 
     def test_lines_of_feeds(self):
-        for line, word in (("feed", 1), ("feed g", 2), ("feed g h", 3), ("feed g h c", 4), ("feed g h c maybe", 4), ("feed g h c always never", 5), ("own g h c in", 5),
-                           ("own g h", 3), ("own G h c always", 1), ("feed g H c always", 2), ("feed g h 1 always", 3), ("feed g h c : always", 4), ("owns g h c always", 0)):
+        for line, word in (("feed", 1), ("feed g", 2), ("feed g h", 3), ("feed g h c", 4), ("feed g h c maybe", 4), ("feed g h c always never", 5),
+                           ("own g h c in", 5),
+                           ("own g h", 3), ("own G h c always", 1), ("feed g H c always", 2), ("feed g h 1 always", 3), ("feed g h c : always", 4),
+                           ("owns g h c always", 0)):
             self.line(line, word)
 
     def test_lines_that_do_not_stand_where_they_may(self):
         lines = NET_TEXT.split("\n")
-        for at, line in ((6, "site d put k"), (6, "home d put k r : never"), (6, "once"), (6, "table k r"), (6, "make h insert 1 1"), (6, ""), (5, "site d put k"), (4, "unique r"),
+        for at, line in ((6, "site d put k"), (6, "home d put k r : never"), (6, "once"), (6, "table k r"), (6, "make h insert 1 1"), (6, ""),
+                         (5, "site d put k"), (4, "unique r"),
                          (3, "once"), (3, "fixed r"), (1, "once"), (0, "key k")):
             self.refused(read_net, "\n".join(lines[:at] + [line] + lines[at:]), at, 0)
         self.refused(read_net, "", 0, 0)
@@ -317,10 +340,14 @@ class EventsTest(Asking):
 
     def test_all_kinds(self):
         large = 10 ** 30 - 1
-        for event, text in ((("make", "h", "insert", (1, -2, None, large)), f"make h insert 1 -2 none {large}"), (("make", "h", "update", (-large,)), f"make h update -{large}"),
-                            (("make", "h", "delete", (0, 5)), "make h delete 0 5"), (("make", "h", "delete", (None,)), "make h delete none"), (("deliver", "e"), "deliver e"),
-                            (("fall", "e", 1), "fall e 1"), (("fall", "e", 5000), "fall e 5000"), (("rest", "rest"), "rest rest"), (("leave", "e", LOW), "leave e in k ..9"),
-                            (("sweep", "e", ALL), "sweep e always"), (("copy", "copy", ~LOW & HIGH), "copy copy & ~ in k ..9 in k 10.."), (("again", "e", ONES), "again e in r 1")):
+        for event, text in ((("make", "h", "insert", (1, -2, None, large)), f"make h insert 1 -2 none {large}"),
+                            (("make", "h", "update", (-large,)), f"make h update -{large}"),
+                            (("make", "h", "delete", (0, 5)), "make h delete 0 5"), (("make", "h", "delete", (None,)), "make h delete none"),
+                            (("deliver", "e"), "deliver e"),
+                            (("fall", "e", 1), "fall e 1"), (("fall", "e", 5000), "fall e 5000"), (("rest", "rest"), "rest rest"),
+                            (("leave", "e", LOW), "leave e in k ..9"),
+                            (("sweep", "e", ALL), "sweep e always"), (("copy", "copy", ~LOW & HIGH), "copy copy & ~ in k ..9 in k 10.."),
+                            (("again", "e", ONES), "again e in r 1")):
             self.assertEqual(show_events((event,)), text)
             self.assertEqual(read_events(text), (event,))
             self.assertEqual(read_events(text + "\n" + text), (event, event))
@@ -333,11 +360,16 @@ class EventsTest(Asking):
         self.refused(read_events, " ", 0, 0)
 
     def test_words_that_cannot_stand(self):
-        for text, word in (("make", 1), ("make h", 2), ("make h insert", 3), ("make h inserts 1", 2), ("make h insert x", 3), ("make h insert 1 None", 4), ("make H insert 1", 1),
-                           ("make h insert 01", 3), ("make h insert -0", 3), ("make h insert 1 " + "9" * 31, 4), ("make h insert 1 ", 4), ("make h insert  1", 3), ("deliver", 1),
-                           ("deliver e e", 2), ("deliver E", 1), ("fall e", 2), ("fall e 0", 2), ("fall e 5001", 2), ("fall e -1", 2), ("fall e 01", 2), ("fall e 1 1", 3),
-                           ("fall e x", 2), ("rest", 1), ("rest e always", 2), ("leave e", 2), ("leave e maybe", 2), ("leave e always always", 3), ("copy e in k", 4),
-                           ("sweep e ~", 3), ("again", 1), ("again e", 2), ("undo 1", 0), ("Make h insert 1", 0), ("", 0), ("wait e", 0), ("make h delete 1.5", 3)):
+        for text, word in (("make", 1), ("make h", 2), ("make h insert", 3), ("make h inserts 1", 2), ("make h insert x", 3),
+                           ("make h insert 1 None", 4), ("make H insert 1", 1),
+                           ("make h insert 01", 3), ("make h insert -0", 3), ("make h insert 1 " + "9" * 31, 4), ("make h insert 1 ", 4),
+                           ("make h insert  1", 3), ("deliver", 1),
+                           ("deliver e e", 2), ("deliver E", 1), ("fall e", 2), ("fall e 0", 2), ("fall e 5001", 2), ("fall e -1", 2),
+                           ("fall e 01", 2), ("fall e 1 1", 3),
+                           ("fall e x", 2), ("rest", 1), ("rest e always", 2), ("leave e", 2), ("leave e maybe", 2), ("leave e always always", 3),
+                           ("copy e in k", 4),
+                           ("sweep e ~", 3), ("again", 1), ("again e", 2), ("undo 1", 0), ("Make h insert 1", 0), ("", 0), ("wait e", 0),
+                           ("make h delete 1.5", 3)):
             self.refused(read_events, "deliver e\n" + text + "\nnothing", 1, word)
 
     def test_lines(self):

@@ -3,10 +3,10 @@
 import random
 import unittest
 
-from chances import chance_net, deliver_by_chance, make_by_chance, settle_by_chance
+from chances import chance_net, drive_by_chance, settle_by_chance
 from examples import ALL, HIGH, LOW, NET, NEVER, ONES, RING, SOLE, TABLE, chain
 from speaklast.cells import Grid
-from speaklast.errors import InvalidFall, TooMany
+from speaklast.errors import TooMany
 from speaklast.feeds import Feed
 from speaklast.filters import Filter
 from speaklast.nets import Net
@@ -248,17 +248,7 @@ class WholeTest(unittest.TestCase):
 
     def end_right(self, chance, net, falls):
         run = Run(net)
-        for _ in range(20):
-            kind = chance.random()
-            if kind < 0.4:
-                make_by_chance(chance, run)
-            elif kind < 0.55 and falls:
-                try:
-                    run.fall(chance.choice(net.feeds), back=chance.randrange(1, 4))
-                except InvalidFall:
-                    pass
-            else:
-                deliver_by_chance(chance, run)
+        drive_by_chance(chance, run, falls, 20)
         self.assertIs(settle_by_chance(chance, run, most=2000), True)
         self.assertEqual((run.stuck, [run.right(site) for site in net.sites]), ((), [True] * len(net)))
 

@@ -144,8 +144,9 @@ class WaysTest(Asking):
         grid = Grid(chain(3).with_filter("fa", ONES & LOW))
         for cell in grid.cells():
             row = dict(zip(("k", "r"), grid.sample(cell)))
-            just = LOW if row["k"] < 10 else HIGH
-            just = just & (Filter.missing("r") if row["r"] is None else ONES if row["r"] == 1 else Filter.within("r", Ranges.between(None, 0)) if row["r"] < 1 else TWOS)
+            below = Filter.within("r", Ranges.between(None, 0))
+            values = {None: Filter.missing("r"), 0: below, 1: ONES, 2: TWOS}[row["r"]]
+            just = values & LOW if row["k"] < 10 else values & HIGH
             net = chain(3).with_filter("fa", ONES & LOW | just).with_filter("fb", just)
             self.assertEqual(ways(net, "sa", "sc"), (("fa", "fb"),))
 
@@ -339,8 +340,11 @@ class ShowsMixedTest(Asking):
         self.refused(MIXED, unique)
 
     def test_five_thousand_events(self):
-        """A closed walk, on which one row goes round often enough: here events that go back and forth are changes, so few fit."""
-        self.refused(bend(MIXED, (1,), MIXED[1] + (("deliver", "e"),) * 4994))
+        """More of them have not the form: so TooMany is not raised."""
+        events = (("deliver", "e"),) * 5000
+        self.assertEqual(self.raised(lambda: shows_mixed(HUGE, "h", "c", ("mixed", events)), TooMany).count, 2002)
+        self.refused(("mixed", events + events[:1]), HUGE)
+        self.refused(("mixed", events))
 
 
 if __name__ == "__main__":

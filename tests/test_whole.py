@@ -3,7 +3,7 @@
 import random
 import unittest
 
-from examples import ALL, NET, RING
+from examples import NET, RING
 from speaklast.errors import InvalidFall
 from speaklast.judging import judged
 from speaklast.mends import mend
@@ -82,7 +82,8 @@ class WholeTest(unittest.TestCase):
     def test_a_plan_in_a_shell(self):
         shell = Shell()
         text, other = TEXT.replace("c wait", "c put"), OTHER.replace("c wait", "c put")
-        self.assertEqual(shell.say_all("net " + text.replace("\n", " / "), "make h insert 1 1", "make h insert 20 1", "settle"), ["ok", "stamp 1", "stamp 2", "5"])
+        self.assertEqual(shell.say_all("net " + text.replace("\n", " / "), "make h insert 1 1", "make h insert 20 1", "settle"),
+                         ["ok", "stamp 1", "stamp 2", "5"])
         steps = shell.say("plan " + other.replace("\n", " / ")).split(" / ")
         self.assertEqual([step.split(" ")[0] for step in steps], ["leave", "rest", "again"])
         shell.say_all("make h update 1 2", "deliver e", *steps, "make h update 20 2")

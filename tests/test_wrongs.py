@@ -167,7 +167,8 @@ class HiddenTest(Asking):
         """Rows with 1 go from a to b, rows with 2 back: no ring, but both sites fail, and each lies ahead of the other."""
         for words in (("put", "put"), ("skip", "put"), ("wait", "put"), ("put", "wait"), ("skip", "wait"), ("wait", "wait")):
             net = Net(TABLE, Site("h", "k", "r", home=ALL), Site("a", "k", "r", policy=words[0]), Site("b", "k", "r", policy=words[1]),
-                      Feed("e", "h", "a", where=ONES), Feed("f", "h", "b", where=TWOS), Feed("g", "a", "b", where=ONES), Feed("i", "b", "a", where=TWOS))
+                      Feed("e", "h", "a", where=ONES), Feed("f", "h", "b", where=TWOS), Feed("g", "a", "b", where=ONES),
+                      Feed("i", "b", "a", where=TWOS))
             self.assertEqual(list(rings(net, "h")), [])
             self.ends_wrong(net, changes=2)
 
@@ -337,7 +338,8 @@ class ShowsWrongTest(Asking):
     def test_rounds_over_sites_that_share_or_are_stamped(self):
         """A feed out of a ring brings its site the same rows again and again; but a site that shares does not count."""
         for word, holds in (("put", True), ("skip", True), ("wait", True), ("shares", False)):
-            net = Net(TABLE, *[RING.site(name) for name in RING.sites], Site("z", "k", "r", policy=word), RING.feed("p"), RING.feed("q"), Feed("x", "a", "z"))
+            net = Net(TABLE, *[RING.site(name) for name in RING.sites], Site("z", "k", "r", policy=word), RING.feed("p"), RING.feed("q"),
+                      Feed("x", "a", "z"))
             self.assertIs(shows_wrong(net, bend(ROUND, (2, 1), ("p", "p", "q", "q", "x", "x"))), holds)
             self.assertIs(shows_wrong(net, ROUND), True)
         ring = RING.with_feed(Feed("x", "h", "a"))
@@ -395,7 +397,8 @@ class FewestTest(Asking):
         self.assertEqual(fewest_changes(NET.with_policy("h", "wait"), falls=True), 2)
         table = Table("k", "r", "u", key=("k",), fixed=("r",))
         ones = Filter.within("u", Ranges.of(1))
-        net = Net(table, Site("h", "k", "r", "u", home=ALL), Site("c", "k", "r", "u"), Site("d", "k", "r", "u", policy="shares"), Feed("e", "h", "c", where=TWOS),
+        net = Net(table, Site("h", "k", "r", "u", home=ALL), Site("c", "k", "r", "u"), Site("d", "k", "r", "u", policy="shares"),
+                  Feed("e", "h", "c", where=TWOS),
                   Feed("f", "h", "c", where=ONES), Feed("g", "h", "d", where=ONES & ones), Feed("i", "h", "d", where=ONES))
         self.assertEqual(fewest_changes(net), 3)
         self.assertEqual(fewest_changes(net.with_policy("d", "put")), 2)
@@ -404,7 +407,8 @@ class FewestTest(Asking):
         apart = NET.with_filter("e", TWOS)
         self.assertEqual([fewest_changes(apart.with_policy("c", word)) for word in ("put", "skip", "wait")], [2, 2, 2])
         table = Table("k", "r", "u", key=("k",), fixed=("r",))
-        net = Net(table, Site("h", "k", "r", "u", home=ALL), Site("c", "k", "r", "u"), Feed("e", "h", "c", where=TWOS), Feed("f", "h", "c", where=ONES))
+        net = Net(table, Site("h", "k", "r", "u", home=ALL), Site("c", "k", "r", "u"), Feed("e", "h", "c", where=TWOS),
+                  Feed("f", "h", "c", where=ONES))
         self.assertEqual(fewest_changes(net), 3)
         # The least pair of cells differs in the fixed column, another pair does not.
         ones = Filter.within("u", Ranges.of(1))
@@ -438,7 +442,8 @@ class FewestTest(Asking):
         unique = ("r",) if chance.random() < 0.2 else ()
         words = ("put", "wait") if unique else ("put", "wait", "skip", "shares", "stamped")
         table = Table("k", "r", key=("k",), unique=unique, fixed=("r",) if chance.random() < 0.3 else (), reuse=chance.random() < 0.7)
-        sites = [Site(name, "k", "r", policy=chance.choice(words), home=ALL if name == "h" else None) for name in ("h", "a", "b")[:chance.randint(2, 3)]]
+        sites = [Site(name, "k", "r", policy=chance.choice(words),
+                      home=ALL if name == "h" else None) for name in ("h", "a", "b")[:chance.randint(2, 3)]]
         feeds = []
         for name in ("e", "f", "g")[:chance.randint(1, 3)]:
             source, target = chance.sample(sites, 2)
