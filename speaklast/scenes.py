@@ -27,7 +27,7 @@ class Scene:
         """A site, and what comes to it."""
         return Place(self.wiring, self.grid, self.sieve, self.brought, self.home, site)
 
-    def places(self):
+    def all_places(self):
         """The list of the places at all sites, in order."""
         return [self.place_at(site) for site in self.wiring.sites]
 

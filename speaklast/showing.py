@@ -47,7 +47,7 @@ def shown_with(scene, site, changes, held):
 
 def shown_by_fall(scene):
     """A wrong run with a fall into a site that waits, or None if none does."""
-    for place in scene.places():
+    for place in scene.all_places():
         for failing in failings_of_falls(place):
             site = place.known.name
             feed, cell = failing[3:]
@@ -71,7 +71,7 @@ def fallen(run, site, feed):
 
 def shown_by_insert(scene):
     """A wrong run with one insert of a cell that two speakers bring to a site that waits, or None."""
-    for place in scene.places():
+    for place in scene.all_places():
         cell = common_cell(place)
         if place.word == "wait" and cell is not None:
             wrong = shown_with(scene, place.known.name, [("insert", scene.grid.sample(cell))], ())
@@ -92,7 +92,7 @@ def common_cell(place):
 
 def shown_by_fibre(scene):
     """A wrong run with two rows of one key, or None."""
-    for place in scene.places():
+    for place in scene.all_places():
         for failing in failings_of_fibres(place):
             one, other = failing[5:]
             for first, last in ((one, other), (other, one)):
@@ -131,7 +131,7 @@ def held_back(scene, first, last):
     """
     waiting = {}
     alone = []
-    for place in scene.places():
+    for place in scene.all_places():
         firsts = [speaker for speaker in place.voices if scene.brings(speaker, first)]
         lasts = [speaker for speaker in place.voices if scene.brings(speaker, last)]
         if place.word == "wait" and firsts and lasts and firsts != lasts:
@@ -144,7 +144,7 @@ def held_back(scene, first, last):
 
 def shown_by_value(scene):
     """A wrong run with one value for two keys, or None."""
-    for place in scene.places():
+    for place in scene.all_places():
         for failing in failings_of_values(place):
             changes = changes_of_value(scene, failing[6], failing[7])
             wrong = shown_with(scene, place.known.name, changes, (failing[4],))

@@ -33,7 +33,7 @@ def fewest_changes(net, *, falls=False):
         return 0
     places = []
     for scene in scenes_of(net):
-        places.extend(scene.places())
+        places.extend(scene.all_places())
     if any([fails_at_once(place, falls) for place in places]):
         return 1
     if "ring" in kinds or any([fails_by_update(place) for place in places]):
